@@ -1,0 +1,1 @@
+"""Parleyhall: talks, manners of answering, and manners put together."""
