@@ -30,6 +30,11 @@ METHODS = set(
     " setdefault split splitlines startswith strip update upper values zfill bit_length".split()
 )
 CHANGES = set("append clear extend insert pop remove reverse setdefault update".split())
+# Names that values of Python's own have, and those of them that methods and values of an object may bear all the same.
+OWN_OF_PYTHON = {name for kind in (str, int, list, dict, set, bytes) for name in dir(kind) if not name.startswith("_")}
+METHODS_TOO = METHODS | {"add", "discard"}
+VALUES_TOO = set("count index title find get join lower upper split strip copy add".split())
+VALUES_NOT_USED = {"args"}
 TWO_UNDERSCORES = set("__init__ __eq__ __repr__ __str__ __len__".split())
 FILES_NOT_USED = set("test tests testing site conftest sitecustomize usercustomize".split()) | {
     name for name in dir(builtins) if name.islower()
@@ -392,7 +397,12 @@ class FileCheck:
         if isinstance(parent, ast.Call) and parent.func is node:
             if node.attr not in METHODS and not is_own:
                 self.fault("L25", node, node.attr)
-        elif node.attr in METHODS and isinstance(node.ctx, ast.Load):
+        elif isinstance(node.ctx, ast.Store):
+            if node.attr in (OWN_OF_PYTHON | VALUES_NOT_USED) - VALUES_TOO:
+                self.fault("L26", node, f"a value called {node.attr}")
+            if node.attr in self.own_methods:
+                self.fault("L18", node, f"{node.attr} is a method and a value")
+        elif node.attr in METHODS - VALUES_TOO or node.attr in self.own_methods:
             self.fault("L25", node, f"{node.attr} is handed on")
 
     def check_function(self, node):
@@ -419,6 +429,18 @@ class FileCheck:
         for part in node.body:
             if not isinstance(part, (ast.FunctionDef, ast.Pass)):
                 self.fault("L5", part, "not a method")
+            elif isinstance(part, ast.FunctionDef):
+                self.check_own_method(part)
+
+    def check_own_method(self, node):
+        if node.name.startswith("__") and node.name not in TWO_UNDERSCORES:
+            self.fault("L5", node, node.name)
+        if node.name in OWN_OF_PYTHON - METHODS_TOO:
+            self.fault("L26", node, f"a method called {node.name}")
+        if node.name == "__init__":
+            for part in ast.walk(node):
+                if isinstance(part, ast.Return) and part.value is not None:
+                    self.fault("L28", part, "__init__ gives something back")
 
     def check_handler(self, node):
         names = node.type.elts if isinstance(node.type, ast.Tuple) else [node.type]

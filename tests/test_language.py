@@ -64,6 +64,8 @@ OUTSIDE = (
     ("L17", "# a type of talk"),
     ("L17", "def f(x):\n    x.register = 1"),
     ("L18", "class C:\n    def m(self):\n        pass\n\n    def m(self):\n        pass"),
+    ("L18", "class C:\n    def m(self):\n        self.m = 1"),
+    ("L18", "class C:\n    def m(self):\n        pass\n\n\nclass D:\n    def __init__(self):\n        self.m = 1"),
     ("L19", "def f(x):\n    try:\n        x = 1\n    except Exception:\n        pass"),
     ("L19", "def f(x):\n    try:\n        x = 1\n    except:\n        pass"),
     ("L19", "def f(x):\n    raise ValueError"),
@@ -81,9 +83,14 @@ OUTSIDE = (
     ("L25", "def f(x):\n    x.sort()"),
     ("L25", "def f(x):\n    return x.encode()"),
     ("L25", "def f(x):\n    y = x.append\n    return y"),
+    ("L25", "class C:\n    def m(self):\n        return self.m"),
+    ("L26", "class C:\n    def sort(self):\n        pass"),
+    ("L26", "class C:\n    def __init__(self):\n        self.items = 1"),
+    ("L26", "class C:\n    def __init__(self):\n        self.args = 1"),
     ("L27", "def f(x):\n    return 2 ** x"),
     ("L27", "A = '%'"),
     ("L27", "A = '\\x41'"),
+    ("L28", "class C:\n    def __init__(self):\n        return None"),
 )
 
 WITHIN = '''"""A file that keeps to the rules."""
@@ -109,6 +116,19 @@ def f(x, y=None):
     except KeyError:
         raise C("words")
     return sorted(x, key=len)[1:] + list(reversed(x)) + [len(set(x)), 3 ** 2]
+
+
+class D:
+    def __init__(self, x):
+        self.count = x
+        self.rows = dict(x)
+
+    def add(self, x):
+        self.rows[x] = self.count
+        return self.said(x)
+
+    def said(self, x):
+        return x in self.rows
 '''
 
 

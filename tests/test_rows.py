@@ -3,42 +3,10 @@
 import inspect
 import unittest
 
-from made_talks import bush, broad, comb, deep, talks_up_to
+from made_talks import all_rows, bush, broad, comb, deep, steps_by_turns, talks_up_to
 from parleyhall.errors import NoRow
 from parleyhall.rows import steps
 from parleyhall.talks import read
-
-ASKER = 0
-ANSWERER = 1
-
-
-def said_on(row, side):
-    return [step[1] for step in row if step[0] == side]
-
-
-def speaker_due_on(row, side):
-    """Who is due in one talk alone: the asker begins in b, the answerer in a."""
-    begins = ASKER if side == 1 else ANSWERER
-    return (begins + len(said_on(row, side))) % 2
-
-
-def steps_by_turns(a, b, row):
-    """The steps told another way: the one who is due speaks wherever it is that one's turn in the talk itself."""
-    found = []
-    for side, talk in ((0, a), (1, b)):
-        if speaker_due_on(row, side) == len(row) % 2:
-            for saying in said_on(row, side):
-                talk = talk[saying]
-            found += [(side, saying) for saying in range(len(talk))]
-    return found
-
-
-def all_rows(a, b):
-    """All rows of the talk from a to b, the empty one first."""
-    rows = [()]
-    for row in rows:
-        rows += [row + (step,) for step in steps_by_turns(a, b, row)]
-    return rows
 
 
 class Arguments(unittest.TestCase):
